@@ -1,0 +1,1 @@
+"""Keelbond: who is paid out of a ship that came home."""
