@@ -52,8 +52,19 @@ def down(one):
     return one[0] // one[1]
 
 
-def total(row):
-    reached = (0, 1)
+# The least under over which all parts of a row can be written as whole numbers.
+def one_under(row):
+    reached = 1
     for part in row:
-        reached = plus(reached, part)
+        reached = reached // common_factor(reached, part[1]) * part[1]
     return reached
+
+
+def numbers_over(row, under):
+    return [part[0] * (under // part[1]) for part in row]
+
+
+# Brought to one under and lowered once: lowering each sum on the way is slow where the unders are large.
+def total(row):
+    under = one_under(row)
+    return lowest(sum(numbers_over(row, under)), under)

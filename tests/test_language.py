@@ -24,7 +24,7 @@ def rules(source):
 
 class Package(unittest.TestCase):
     def test_the_files_are_there(self):
-        for name in ["__init__.py", "errors.py", "parts.py", "touch.py"]:
+        for name in ["__init__.py", "errors.py", "parts.py", "touch.py", "level.py", "share.py", "table.py"]:
             self.assertIn(name, sources())
 
     def test_names_of_files(self):

@@ -3,7 +3,7 @@ from fractions import Fraction
 from math import floor
 
 from keelbond.errors import BadPart
-from keelbond.parts import below, down, is_part, less, lowest, over, plus, times, total
+from keelbond.parts import below, down, is_part, less, lowest, numbers_over, one_under, over, plus, times, total
 
 # Two neighbours of forty figures have no common factor; LONG is the product of both.
 LEFT = 1234567890123456789012345678901234567890
@@ -150,6 +150,17 @@ class Down(unittest.TestCase):
             whole = down(part)
             self.assertIs(type(whole), int)
             self.assertEqual(whole, floor(Fraction(*part)))
+
+
+class OneUnder(unittest.TestCase):
+    def test_the_least_under_for_all(self):
+        for row, under in [([], 1), ([(0, 1)], 1), ([(1, 2), (-1, 3)], 6), ([(1, 4), (5, 6)], 12), ([(1, 7)] * 3, 7),
+                           ([(1, LEFT), (1, RIGHT), (1, LONG)], LONG)]:
+            self.assertEqual(one_under(row), under)
+
+    def test_the_numbers_over_it(self):
+        self.assertEqual(numbers_over([], 1), [])
+        self.assertEqual(numbers_over([(1, 4), (-5, 6), (0, 1), (2, 1)], 12), [3, -10, 0, 24])
 
 
 class Total(PartCase):
