@@ -24,6 +24,14 @@ def value_of(part):
     return Fraction(*part)
 
 
+def claim(due, touched, rank=0):
+    return (part_of(due), touched, rank)
+
+
+def row(*numbers):
+    return [part_of(number) for number in numbers]
+
+
 def subsets(many):
     return list(chain.from_iterable(combinations(range(many), size) for size in range(many + 1)))
 
@@ -51,11 +59,11 @@ def table_faults(worths, claims, parts, rows):
     out_of = [Fraction(0)] * len(worths)
     if len(rows) != len(claims):
         faults.append("count of rows")
-    for (due, touched, rank), part, row in zip(claims, parts, rows):
-        if len(row) != len(worths):
+    for (due, touched, rank), part, paid_out in zip(claims, parts, rows):
+        if len(paid_out) != len(worths):
             faults.append("length of a row")
             continue
-        for fund, paid in enumerate(row):
+        for fund, paid in enumerate(paid_out):
             if value_of(paid) < 0:
                 faults.append("below nought")
             if value_of(paid) != 0 and fund not in touched:
@@ -63,7 +71,7 @@ def table_faults(worths, claims, parts, rows):
             if paid != part_of(value_of(paid)):
                 faults.append("not a part")
             out_of[fund] += value_of(paid)
-        if sum(map(value_of, row), Fraction(0)) != value_of(part):
+        if sum(map(value_of, paid_out), Fraction(0)) != value_of(part):
             faults.append("a claim's sum")
     if any(spent > worth for spent, worth in zip(out_of, worths)):
         faults.append("a fund's sum")
@@ -104,8 +112,10 @@ def own_shared(worths, claims):
 
 
 def own_papers(worths, claims, parts, place):
-    """All heaps that are a paper for a claim that is paid less than its due."""
+    """All heaps that are a paper for a claim: none where it is paid its due."""
     due, touched, rank = claims[place]
+    if value_of(parts[place]) >= value_of(due):
+        return []
     fill = fill_of(due, parts[place])
     counted = [other for other, claim in enumerate(claims)
                if claim[2] < rank or (claim[2] == rank and fill_of(claim[0], parts[other]) <= fill)]

@@ -31,6 +31,8 @@ os quit setattr super type vars""".split()
 UNWRITTEN = re.compile(
     r"\b(type|typing|typing_extensions|enum|Enum|IntEnum|StrEnum|Flag|IntFlag|Generic|Protocol|ABC|ABCMeta"
     r"|namedtuple|NamedTuple|TypedDict|TYPE_CHECKING|abstractmethod)\b|dataclass|overload|contextmanager")
+UNNAMED_VALUES = """items keys values pop update append clear extend insert remove reverse setdefault sort args encode
+format""".split()
 DOUBLE = ["__init__", "__eq__", "__repr__", "__str__", "__len__"]
 FILE_NAME = re.compile(r"([a-z][a-z0-9_]*|__init__|__main__)\.py")
 FORBIDDEN_FILES = ["test", "tests", "testing", "site", "conftest", "sitecustomize", "usercustomize"]
@@ -241,6 +243,18 @@ def own_methods(trees):
             if isinstance(node, ast.ClassDef):
                 found += [part.name for part in node.body if isinstance(part, ast.FunctionDef)]
     return found
+
+
+def own_values(trees):
+    """The names of the values that are given to objects."""
+    return [node.attr for tree in trees for node in ast.walk(tree)
+            if isinstance(node, ast.Attribute) and isinstance(node.ctx, ast.Store)]
+
+
+def twofold_names(trees):
+    """L18 and L26: names that are a value here and a method there, or that no value may have."""
+    barred = UNNAMED_VALUES + own_methods(trees)
+    return sorted(set(name for name in own_values(trees) if name in barred))
 
 
 def faults_of(source, own=()):

@@ -3,7 +3,7 @@ import os
 import unittest
 
 import keelbond
-from language import circles, faults_of, file_faults, own_methods
+from language import circles, faults_of, file_faults, own_methods, twofold_names
 
 FOLDER = os.path.dirname(os.path.abspath(keelbond.__file__))
 
@@ -24,7 +24,8 @@ def rules(source):
 
 class Package(unittest.TestCase):
     def test_the_files_are_there(self):
-        for name in ["__init__.py", "errors.py", "parts.py", "touch.py", "level.py", "share.py", "table.py"]:
+        for name in ["__init__.py", "errors.py", "parts.py", "touch.py", "level.py", "share.py", "table.py", "paper.py",
+                     "ranks.py", "ship.py"]:
             self.assertIn(name, sources())
 
     def test_names_of_files(self):
@@ -35,6 +36,9 @@ class Package(unittest.TestCase):
         own = own_methods([ast.parse(text) for text in sources().values()])
         for name, text in sources().items():
             self.assertEqual(faults_of(text, own), [], name)
+
+    def test_no_name_is_a_value_and_a_method(self):
+        self.assertEqual(twofold_names([ast.parse(text) for text in sources().values()]), [])
 
     def test_no_file_draws_from_itself(self):
         trees = {name.partition(".")[0]: ast.parse(text) for name, text in sources().items()}
@@ -87,6 +91,12 @@ class Checker(unittest.TestCase):
     def test_files(self):
         for name in ["Parts.py", "parts.txt", "tests.py", "test_parts.py", "sum.py", "typing.py", "notes"]:
             self.assertEqual(file_faults(name), [("L14", 0)], name)
+
+    def test_twofold_names(self):
+        one = "class A:\n    def day(self):\n        return 1\n\n    def due(self):\n        return 2\n"
+        other = "class B:\n    def __init__(self):\n        self.day = 1\n        self.keys = 2\n        self.count = 3\n"
+        self.assertEqual(twofold_names([ast.parse(one), ast.parse(other)]), ["day", "keys"])
+        self.assertEqual(twofold_names([ast.parse(one)]), [])
 
     def test_circles(self):
         trees = {"a": "from keelbond.b import x", "b": "from keelbond.c import x", "c": "from keelbond.a import x",

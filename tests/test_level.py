@@ -3,7 +3,7 @@ from copy import deepcopy
 from fractions import Fraction
 from random import Random
 
-from cases import LONG, SoonCase, own_level, part_of, some_cases, some_rows, value_of
+from cases import LONG, SoonCase, own_level, part_of, row, some_cases, some_rows, value_of
 from keelbond.level import filled, level, stopped
 
 NOUGHT = (0, 1)
@@ -12,10 +12,6 @@ ONE = (1, 1)
 # Two of three funds are scarce: the first for those that touch it, the heap of the first two for all three claims.
 WORTHS = [2, 4, 100]
 CLAIMS = [((8, 1), (0,), 0), ((8, 1), (0, 1), 0), ((8, 1), (1, 2), 0), ((5, 1), (2,), 0)]
-
-
-def row(*numbers):
-    return [part_of(number) for number in numbers]
 
 
 def cases(seed, count):

@@ -5,22 +5,12 @@ from itertools import permutations, product
 from random import Random
 
 from cases import (
-    LONG, PRIMES, SoonCase, fill_of, overdrawn_heaps, own_papers, own_shared, part_of, some_cases, some_claims,
-    some_rows, table_faults, value_of,
+    LONG, PRIMES, SoonCase, claim, fill_of, overdrawn_heaps, own_papers, own_shared, part_of, row, some_cases,
+    some_claims, some_rows, table_faults, value_of,
 )
 from keelbond.share import shared
 from keelbond.table import good_table, table
 from keelbond.touch import overdrawn
-
-NOUGHT = (0, 1)
-
-
-def claim(due, touched, rank=0):
-    return (part_of(due), touched, rank)
-
-
-def row(*numbers):
-    return [part_of(number) for number in numbers]
 
 
 class OneFund(SoonCase):
