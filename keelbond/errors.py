@@ -1,12 +1,17 @@
-"""The refusals, each straight under KeelError, so that no handler of one takes another."""
+"""The refusals, each straight under KeelError, so that no handler of one takes another.
+
+Each is called by its class in small letters, as the desk answers it.
+"""
 
 
 class KeelError(ValueError):
-    pass
+    def called(self):
+        return "keelerror"
 
 
 class BadPart(KeelError):
-    pass
+    def called(self):
+        return "badpart"
 
 
 class Overdrawn(KeelError):
@@ -14,80 +19,104 @@ class Overdrawn(KeelError):
         KeelError.__init__(self, "the load of a heap is above its worth")
         self.heap = heap
 
+    def called(self):
+        return "overdrawn"
+
 
 class BadName(KeelError):
-    pass
+    def called(self):
+        return "badname"
 
 
 class NoShip(KeelError):
-    pass
+    def called(self):
+        return "noship"
 
 
 class AtSea(KeelError):
-    pass
+    def called(self):
+        return "atsea"
 
 
 class AtHome(KeelError):
-    pass
+    def called(self):
+        return "athome"
 
 
 class Full(KeelError):
-    pass
+    def called(self):
+        return "full"
 
 
 class Crowded(KeelError):
-    pass
+    def called(self):
+        return "crowded"
 
 
 class BadWorth(KeelError):
-    pass
+    def called(self):
+        return "badworth"
 
 
 class BadLot(KeelError):
-    pass
+    def called(self):
+        return "badlot"
 
 
 class Laden(KeelError):
-    pass
+    def called(self):
+        return "laden"
 
 
 class BadDays(KeelError):
-    pass
+    def called(self):
+        return "baddays"
 
 
 class BadSum(KeelError):
-    pass
+    def called(self):
+        return "badsum"
 
 
 class BadGain(KeelError):
-    pass
+    def called(self):
+        return "badgain"
 
 
 class BadHeap(KeelError):
-    pass
+    def called(self):
+        return "badheap"
 
 
 class Worthless(KeelError):
-    pass
+    def called(self):
+        return "worthless"
 
 
 class BadFund(KeelError):
-    pass
+    def called(self):
+        return "badfund"
 
 
 class NoClaim(KeelError):
-    pass
+    def called(self):
+        return "noclaim"
 
 
 class NotHired(KeelError):
-    pass
+    def called(self):
+        return "nothired"
 
 
 class NoBack(KeelError):
-    pass
+    def called(self):
+        return "noback"
 
 
 class BadText(KeelError):
     def __init__(self, at):
         KeelError.__init__(self, "the text is not so written")
         self.at = at
+
+    def called(self):
+        return "badtext"

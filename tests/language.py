@@ -208,6 +208,13 @@ def name_faults(node):
     return [(rule, node.lineno) for rule in bad]
 
 
+def hidden_faults(tree):
+    """L15: parameters and locals called like an import or a class of their file."""
+    top = [alias.asname or alias.name for node in tree.body if isinstance(node, ast.ImportFrom) for alias in node.names]
+    top += [node.name for node in tree.body if isinstance(node, ast.ClassDef)]
+    return [("L15", node.lineno) for node in ast.walk(tree) for name in bound_names(node) if name in top]
+
+
 def method_faults(tree, own):
     """L25: methods of Python's own values; own are the method names of the package's classes."""
     called = [node.func for node in ast.walk(tree) if isinstance(node, ast.Call)]
@@ -261,6 +268,7 @@ def faults_of(source, own=()):
     """The faults of a file's text, as pairs (rule, row)."""
     tree = ast.parse(source)
     faults = sign_faults(source) + top_faults(tree) + method_faults(tree, list(own)) + walk_faults(tree)
+    faults += hidden_faults(tree)
     for node in ast.walk(tree):
         if isinstance(node, ast.FunctionDef):
             faults += def_faults(node)

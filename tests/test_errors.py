@@ -47,6 +47,11 @@ class Refusals(unittest.TestCase):
                     raise made
                 self.assertIs(taken.exception, made)
 
+    def test_each_is_called_by_its_class_in_small_letters(self):
+        for name, made in refusals().items():
+            self.assertEqual(made.called(), name.lower())
+        self.assertEqual(KeelError("words").called(), "keelerror")
+
 
 class Values(unittest.TestCase):
     def test_overdrawn_has_its_heap_when_it_is_made(self):

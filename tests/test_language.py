@@ -25,7 +25,7 @@ def rules(source):
 class Package(unittest.TestCase):
     def test_the_files_are_there(self):
         for name in ["__init__.py", "errors.py", "parts.py", "touch.py", "level.py", "share.py", "table.py", "paper.py",
-                     "ranks.py", "ship.py"]:
+                     "ranks.py", "ship.py", "deeds.py", "book.py", "sheet.py", "desk.py"]:
             self.assertIn(name, sources())
 
     def test_names_of_files(self):
@@ -76,6 +76,8 @@ class Checker(unittest.TestCase):
             ("L14", "x = 1\t\n"),
             ("L15", "x = 1\nx = 2\n"),
             ("L15", "def f(sum):\n    return sum\n"),
+            ("L15", "from keelbond.table import table\n\n\ndef f(table):\n    return table\n"),
+            ("L15", "class A:\n    pass\n\n\ndef f(x):\n    A = x\n    return A\n"),
             ("L16", "import sys\n"),
             ("L17", "# a type\n"),
             ("L18", "class A:\n    def a(self):\n        return 1\n\n    def a(self):\n        return 2\n"),
@@ -94,7 +96,7 @@ class Checker(unittest.TestCase):
 
     def test_twofold_names(self):
         one = "class A:\n    def day(self):\n        return 1\n\n    def due(self):\n        return 2\n"
-        other = "class B:\n    def __init__(self):\n        self.day = 1\n        self.keys = 2\n        self.count = 3\n"
+        other = "def give(x):\n    x.day = 1\n    x.keys = 2\n    x.count = 3\n"
         self.assertEqual(twofold_names([ast.parse(one), ast.parse(other)]), ["day", "keys"])
         self.assertEqual(twofold_names([ast.parse(one)]), [])
 
